@@ -343,6 +343,34 @@ func manyRules(n int) []api.Rule {
 	return l
 }
 
+// wide is a grammar of so many terminals and nonterminals, each of which stands where it must.
+func wide(terms, names int) api.Grammar {
+	var g api.Grammar
+	for sym := range terms {
+		g.Terms = append(g.Terms, fmt.Sprint("t", sym))
+	}
+	for n := range names {
+		g.Names = append(g.Names, fmt.Sprint("n", n))
+		g.Rules = append(g.Rules, rule(terms+n))
+	}
+	for sym := range terms {
+		r := &g.Rules[sym/api.MaxRight]
+		r.Right = append(r.Right, sym)
+	}
+	return g
+}
+
+// P4.1, P4.2: as many nonterminals and terminals as there may be, and one more.
+func TestManySymbols(t *testing.T) {
+	g := wide(api.MaxTerms, api.MaxNames)
+	wantReadAgain(t, g)
+	wantTextOfRules(t, g)
+	wantRule(t, g, 0, "n0 = 't0' 't1' 't2' 't3' 't4' 't5' 't6' 't7'")
+	wantRule(t, g, api.MaxNames-1, fmt.Sprint("n", api.MaxNames-1, " ="))
+	wantNothing(t, wide(api.MaxTerms+1, api.MaxNames))
+	wantNothing(t, wide(api.MaxTerms, api.MaxNames+1))
+}
+
 // P4.1: of the many rules that may not be, one less may.
 func TestManyRulesAtTheLimit(t *testing.T) {
 	g := ordinary()
